@@ -1,0 +1,1 @@
+"""Canonwright: one line, sung by several voices."""
