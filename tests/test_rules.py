@@ -6,6 +6,7 @@ import unittest
 from canonwright import rules
 from canonwright.houses import WAYS, house_of
 from canonwright.rules import Above, Again, Back, Leap, Never, Range, Rule, Span, rule_of
+from tests.reading import is_broken, voices_asked
 
 NAMES = ("Span", "Leap", "Back", "Again", "Range", "Above", "Never")
 TOLD = (("span", 1, 21), ("leap", 2), ("back", 3, 4), ("again", 2), ("range", -7, 9), ("above", 2, 0),
@@ -236,72 +237,6 @@ class NeverBroken(Asking):
         self.holds(house, [3, 3, 3], Never(0, 0, "any"), [[], without_the_late, every])
         self.holds(house, [3, 4, 5], Never(0, 0, "like"), [[], without_the_late, without_the_late])
         self.holds(house, [3, 4, 5], Never(1, 1, "like"), [[], [], [(0, 2), (1, 2)]])
-
-
-def sounds(house, line, voice, beat):
-    late, shift, turned = (0, 0, False) if voice == 0 else house[3][voice - 1]
-    if late > beat or beat - late >= len(line):
-        return None
-    note = line[beat - late]
-    return shift - note if turned else shift + note
-
-
-def direction(move):
-    return "still" if move == 0 else "up" if move > 0 else "down"
-
-
-def is_way_of(way, one, other):
-    both = {direction(one), direction(other)}
-    if way == "like":
-        return both in ({"up"}, {"down"})
-    if way == "against":
-        return both == {"up", "down"}
-    if way == "aside":
-        return len(both) == 2 and "still" in both
-    return True
-
-
-def is_broken(house, line, beat, rule, voices):
-    """A second reading of the document, voices by voices, to hold the first one against."""
-    word, parts = rule[0], rule[1:]
-    now = [sounds(house, line, voice, beat) for voice in voices]
-    if None in now:
-        return False
-    if word == "span":
-        return beat % house[1] == parts[0] and abs(now[0] - now[1]) % house[2] not in spans_in(parts[1])
-    if word == "leap":
-        return beat > 0 and abs(line[beat - 1] - line[beat]) > parts[0]
-    if word == "back":
-        if beat < 2 or abs(line[beat - 2] - line[beat - 1]) < parts[0]:
-            return False
-        homeward = -1 if line[beat - 1] > line[beat - 2] else 1
-        return line[beat] not in [line[beat - 1] + homeward * step for step in range(1, parts[1] + 1)]
-    if word == "again":
-        return beat >= parts[0] and len(set(line[beat - parts[0]:beat + 1])) == 1
-    if word == "range":
-        return now[0] not in range(parts[0], parts[1] + 1)
-    if word == "above":
-        return voices == parts and now[0] < now[1]
-    before = [sounds(house, line, voice, beat - 1) for voice in voices]
-    if None in before:
-        return False
-    spans = (abs(before[0] - before[1]) % house[2], abs(now[0] - now[1]) % house[2])
-    return spans == parts[:2] and is_way_of(parts[2], now[0] - before[0], now[1] - before[1])
-
-
-def spans_in(spans):
-    return [k for k, sign in enumerate(reversed(bin(spans)[2:])) if sign == "1"]
-
-
-def voices_asked(house, word):
-    numbers = range(len(house[3]) + 1)
-    if word in ("leap", "back", "again"):
-        return [()]
-    if word == "range":
-        return list(itertools.combinations(numbers, 1))
-    if word == "above":
-        return list(itertools.permutations(numbers, 2))
-    return list(itertools.combinations(numbers, 2))
 
 
 class AllSmallLines(unittest.TestCase):
