@@ -2,8 +2,15 @@
 
 import itertools
 import random
+import re
 
 from canonwright.houses import WAYS, house_of
+
+NUMBER = "(?:0|-?[1-9][0-9]*)"
+ROWS = (f"notes {NUMBER}", f"bar {NUMBER}", f"octave {NUMBER}", f"voice {NUMBER} {NUMBER}(?: turned)?",
+        f"span {NUMBER} (?:-|{NUMBER}(?:,{NUMBER})*)", f"(?:leap|again) {NUMBER}",
+        f"(?:back|range|above) {NUMBER} {NUMBER}", f"never {NUMBER} {NUMBER} (?:like|against|aside|any)")
+KINDS = ("notes", "bar", "octave", "voice")
 
 
 def sounds(house, line, voice, beat):
@@ -142,6 +149,90 @@ def most_read(house, line):
             return many
     # With as many steps as there are stands, one of them has come twice.
     return None
+
+
+def pairs_read(one, other):
+    """The pairs of lines that both houses let by, each with its first line; of too many the first 152."""
+    found = {}
+    waiting = [[]]
+    while waiting and len(found) < 152:
+        line = waiting.pop(0)
+        pair = (stand_read(one, line), stand_read(other, line))
+        if pair not in found:
+            found[pair] = line
+            waiting.extend(line + [note] for note in may_follow(one, line) if note in may_follow(other, line))
+    return found
+
+
+def apart_read(one, other, most):
+    """The first line of at most so many notes that just one of both lets by, and which; or None."""
+    for many in range(most + 1):
+        for line in all_lists(one, many):
+            by = [breaks_read(house, line) == [] for house in (one, other)]
+            if by[0] != by[1]:
+                return (line, 1 if by[0] else 2)
+    return None
+
+
+def compared_read(one, other):
+    """What is to be told of two houses with at most 150 pairs: each first line of a pair, and one note behind it."""
+    found = pairs_read(one, other)
+    apart = []
+    for line in found.values():
+        for note in range(one[0]):
+            by = [note in may_follow(house, line) for house in (one, other)]
+            if by[0] != by[1]:
+                apart.append((len(line), line + [note], 1 if by[0] else 2))
+    return ("apart", *min(apart)[1:]) if apart else ("alike", sorted(found))
+
+
+def written(house):
+    """The text of a house, row by row."""
+    text = "notes " + str(house[0]) + "\nbar " + str(house[1]) + "\noctave " + str(house[2])
+    for late, shift, turned in house[3]:
+        text += "\nvoice " + str(late) + " " + str(shift) + (" turned" if turned else "")
+    for rule in house[4]:
+        parts = list(rule)
+        if rule[0] == "span":
+            parts[2] = ",".join(str(k) for k in spans_in(rule[2])) or "-"
+        text += "\n" + " ".join(str(part) for part in parts)
+    return text
+
+
+def is_row_within(words, bar, octave, many):
+    """Whether the numbers of a row that is written as it must be keep to what the document bounds."""
+    word, numbers = words[0], [int(part) for part in words[1:] if re.fullmatch(NUMBER, part)]
+    if word == "voice":
+        return 0 <= numbers[0] <= 4 and -12 <= numbers[1] <= 12
+    if word == "span":
+        spans = [] if words[2] == "-" else [int(part) for part in words[2].split(",")]
+        return 0 <= numbers[0] < bar and spans == sorted(set(spans)) and all(0 <= k < octave for k in spans)
+    if word == "leap":
+        return 0 <= numbers[0] <= 12
+    if word == "back":
+        return all(1 <= number <= 12 for number in numbers)
+    if word == "again":
+        return 1 <= numbers[0] <= 3
+    if word == "range":
+        return -60 <= numbers[0] <= numbers[1] <= 60
+    if word == "above":
+        return all(0 <= number <= many for number in numbers) and numbers[0] != numbers[1]
+    return all(0 <= number < octave for number in numbers)
+
+
+def is_house_text(text):
+    rows = text.split("\n")
+    if not all(any(re.fullmatch(shape, row) for shape in ROWS) for row in rows) or len(rows) < 4:
+        return False
+    words = [row.split(" ") for row in rows]
+    kinds = [KINDS.index(row[0]) if row[0] in KINDS else 4 for row in words]
+    if kinds != sorted(kinds) or kinds[:3] != [0, 1, 2] or 0 in kinds[1:] or 1 in kinds[2:] or 2 in kinds[3:]:
+        return False
+    notes, bar, octave = [int(row[1]) for row in words[:3]]
+    if not (1 <= notes <= 7 and 1 <= bar <= 4 and 1 <= octave <= 12):
+        return False
+    many = kinds.count(3)
+    return 1 <= many <= 3 and kinds.count(4) <= 8 and all(is_row_within(row, bar, octave, many) for row in words[3:])
 
 
 def made_rule(draw, bar, octave, many):
